@@ -1,0 +1,1 @@
+"""Tugline: answers that are pulled."""
