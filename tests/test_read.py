@@ -183,9 +183,14 @@ class Parts(ReadCase):
         # An empty list and a name hold no sum that would stand deeper.
         self.good_part("( [ a [ f ( [ ( [ ] ) ] ) ] ] )")
         self.good_part("( [ a [ f ( [ ( len a ) ] ) ] ] )")
-        for seven in ("[ {} ]", "a [ {} ]", "f ( {} )"):
+        for seven in ("[ {} ]", "[ a , {} ]", "[ a , a , {} ]", "a [ {} ]", "f ( {} )"):
             self.good_part(seven.format(brackets(5)))
             self.bad_part(seven.format(brackets(6)))
+
+    def test_sums_within_calls_of_several(self):
+        for call in ("two ( {} , a )", "two ( a , {} )"):
+            for many, told in ((5, self.good), (6, lambda source: self.bad(2, source))):
+                told(text("def two a b", "  back a", "back " + call.format(brackets(many))))
 
     def test_endless_brackets_are_refused(self):
         self.bad(0, "back " + "( " * 5000 + "1")
