@@ -9,7 +9,7 @@ class NoText(TugError):
     """What was handed in is no text, by the number of a line."""
 
     def __init__(self, line):
-        super().__init__("no text, by the line that is the field")
+        super().__init__("not a text: the field line tells where")
         self.line = line
 
 
@@ -17,7 +17,7 @@ class NoKnob(TugError):
     """The text has no such knob, or not so many of them."""
 
     def __init__(self, number):
-        super().__init__("no knobs, by the number that is the field")
+        super().__init__("no such knob, or not so many: see the field number")
         self.number = number
 
 
@@ -25,7 +25,7 @@ class TooMany(TugError):
     """There are more rows than there may be."""
 
     def __init__(self, most):
-        super().__init__("more rows than the field allows")
+        super().__init__("too many rows: the field most tells how many may be")
         self.most = most
 
 
@@ -33,7 +33,7 @@ class NoPull(TugError):
     """No number of the range pulls a told number to this worth."""
 
     def __init__(self, worth):
-        super().__init__("no pull to the worth that is the field")
+        super().__init__("no pull does it: see the field worth")
         self.worth = worth
 
 
@@ -41,7 +41,7 @@ class Nothing(TugError):
     """There is no text to go to, by the word that asked for it."""
 
     def __init__(self, word):
-        super().__init__("nothing to go to by the word that is the field")
+        super().__init__("nothing to go to: see the field word")
         self.word = word
 
 
@@ -49,7 +49,7 @@ class NoPlace(TugError):
     """The run tells no number at this place."""
 
     def __init__(self, place):
-        super().__init__("nothing told at the place that is the field")
+        super().__init__("nothing is told there: see the field place")
         self.place = place
 
 
@@ -57,5 +57,5 @@ class NoRow(TugError):
     """The desk can't take this row."""
 
     def __init__(self, row):
-        super().__init__("no row that is taken: the field")
+        super().__init__("not a row that is taken: see the field row")
         self.row = row
