@@ -199,8 +199,17 @@ class Maker:
         return "\n".join(self.rows)
 
 
+def row_of(*parts):
+    """The sum of rows, each handed in as (times, row)."""
+    return [sum(many * row[k] for many, row in parts) for k in range(len(parts[0][1]))]
+
+
 class Runner:
-    """Runs what a maker made; a number is (worth, held, reach), a list a list of such."""
+    """Runs what a maker made; a number is (worth, held, reach, row), a list a list of such.
+
+    Its row stands for its form: the number that is there without a knob, then so many
+    times each knob, 0 too.
+    """
 
     def __init__(self, made, setting, steps):
         self.made = made
@@ -208,6 +217,8 @@ class Runner:
         self.steps = steps
         self.told = []
         self.way = []
+        self.conditions = []
+        self.back = None
         self.many = 0
         self.open = 0
         self.at = None
@@ -218,12 +229,31 @@ class Runner:
                 self.block(self.made.main, {})
             except Back as back:
                 value = back.args[0]
-                if isinstance(value, list):
-                    self.stop("kind")
+                self.back = self.number(value)
                 end = ("back", value[0])
         except Stop as stop:
             end = ("fault", *stop.args)
-        return tuple(self.told), end, tuple(self.way), self.many
+        return tuple(value[0] for value in self.told), end, tuple(self.way), self.many
+
+    def traced(self):
+        """What is told of the forms, of a run that came to its end."""
+        told, end, way, many = self.result()
+        if self.back:
+            end = ("back", self.form(self.back[3]))
+        conditions = [(turn, self.form(row)) for turn, row in self.conditions]
+        return tuple(self.form(value[3]) for value in self.told), end, way, many, conditions
+
+    def form(self, row):
+        return row[0], tuple((k, many) for k, many in enumerate(row[1:]) if many)
+
+    def plain(self, number):
+        return [number] + [0] * len(self.setting)
+
+    def turn(self, out, *conditions):
+        """Each condition is handed in as a number and (times, row) of what goes in."""
+        for number, *parts in conditions:
+            self.conditions.append((len(self.way), row_of((1, self.plain(number)), *parts)))
+        self.way.append((self.at, out))
 
     def stop(self, why):
         raise Stop(why, self.at)
@@ -244,7 +274,7 @@ class Runner:
 
     def do_tell(self, at, names, total):
         self.begin(at)
-        self.told.append(self.number(self.value(total, names))[0])
+        self.told.append(self.number(self.value(total, names)))
 
     def do_back(self, at, names, total):
         self.begin(at)
@@ -283,23 +313,35 @@ class Runner:
             out = ("more", "less", "same")[(a[0] < b[0]) + 2 * (a[0] == b[0])]
         else:
             out = "yes" if (a[0] < b[0] or sign == "<=" and a[0] == b[0]) else "no"
+        rise, fall = ((1, b[3]), (-1, a[3])), ((1, a[3]), (-1, b[3]))
+        conditions = {
+            ("<", "yes"): [(-1, *rise)],
+            ("<", "no"): [(0, *fall)],
+            ("<=", "yes"): [(0, *rise)],
+            ("<=", "no"): [(-1, *fall)],
+            ("==", "less"): [(-1, *rise)],
+            ("==", "same"): [(0, *fall), (0, *rise)],
+            ("==", "more"): [(-1, *fall)],
+        }
         if a[1] or b[1]:
-            self.way.append((self.at, out))
+            self.turn(out, *conditions[sign, out])
         return out in ("yes", "same")
 
     def value(self, part, names):
         what = part[0]
         if what == "knob":
-            return self.setting[part[1]], True, 1
+            row = self.plain(0)
+            row[1 + part[1]] = 1
+            return self.setting[part[1]], True, 1, row
         if what == "fixed":
-            return part[1], False, abs(part[1])
+            return part[1], False, abs(part[1]), self.plain(part[1])
         if what == "name":
-            return names.get(part[1], (0, False, 0))
+            return names.get(part[1], (0, False, 0, self.plain(0)))
         if what == "len":
             items = names.get(part[1], 0)
             if not isinstance(items, list):
                 self.stop("kind")
-            return len(items), False, len(items)
+            return len(items), False, len(items), self.plain(len(items))
         if what == "list":
             items = [self.value(item, names) for item in part[1]]
             return [self.number(item) for item in items]
@@ -314,8 +356,12 @@ class Runner:
         if not isinstance(items, list) or isinstance(place, list):
             self.stop("kind")
         out = "below" if place[0] < 0 else "beyond" if place[0] >= len(items) else place[0]
-        if place[1]:
-            self.way.append((self.at, out))
+        if place[1] and out == "below":
+            self.turn(out, (-1, (-1, place[3])))
+        elif place[1] and out == "beyond":
+            self.turn(out, (-len(items), (1, place[3])))
+        elif place[1]:
+            self.turn(out, (-out, (1, place[3])), (out, (-1, place[3])))
         if isinstance(out, str):
             self.stop("place")
         return items[out]
@@ -339,21 +385,26 @@ class Runner:
         a, b = self.number(one), self.number(other)
         held = a[1] or b[1]
         if sign in "+-":
-            return self.sized(a[0] + b[0] if sign == "+" else a[0] - b[0], held, a[2] + b[2])
+            many = 1 if sign == "+" else -1
+            return self.sized(a[0] + many * b[0], held, a[2] + b[2], row_of((1, a[3]), (many, b[3])))
         if b[1] and (sign != "*" or a[1]):
             self.stop("bent")
         if sign == "*":
-            return self.sized(a[0] * b[0], held, a[2] * b[2])
+            row = row_of((a[0], b[3])) if b[1] else row_of((b[0], a[3]))
+            return self.sized(a[0] * b[0], held, a[2] * b[2], row)
         if b[0] < 1:
             self.stop("nought")
         quotient, rest = divmod(a[0], b[0])
         if a[1]:
-            self.way.append((self.at, quotient))
-        return self.sized(quotient, False, None) if sign == "//" else self.sized(rest, a[1], a[2])
+            goes_in = quotient * b[0]
+            self.turn(quotient, (-goes_in, (1, a[3])), (goes_in + b[0] - 1, (-1, a[3])))
+        if sign == "//":
+            return self.sized(quotient, False, None, self.plain(quotient))
+        return self.sized(rest, a[1], a[2], row_of((1, a[3]), (-quotient, b[3])))
 
-    def sized(self, worth, held, reach):
+    def sized(self, worth, held, reach, row):
         if held and len(str(reach)) > 60:
             self.stop("steep")
         if not held and len(str(abs(worth))) > 60:
             self.stop("great")
-        return worth, held, reach if held else abs(worth)
+        return worth, held, reach if held else abs(worth), row

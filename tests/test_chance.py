@@ -11,10 +11,10 @@ from tugline.sources import knobs, line_of, read, set_to
 SEEDS = 1500
 
 
-def made(seed):
+def made(seed, kind=Maker):
     chance = random.Random(seed)
     while True:
-        maker = Maker(chance)
+        maker = kind(chance)
         source = maker.text()
         fits = all(row.count(" ") < 90 for row in maker.rows)
         if len(maker.rows) <= 60 and len(maker.knobs) <= 30 and fits:

@@ -5,6 +5,7 @@ Each function here checks the faults of its operation in their order.
 """
 
 from tugline.faults import Fault
+from tugline.forms import added, plain_form, taken, times
 
 # The least number of more than sixty figures.
 TOO_GREAT = 10 ** 60
@@ -12,33 +13,34 @@ MOST_LONG = 60
 
 
 class Amount:
-    """A number, whether it is held, and its reach: of one not held its size."""
+    """A number by its form, whether it is held, and its reach: of one not held its size."""
 
-    def __init__(self, worth, held, reach):
-        self.worth = worth
+    def __init__(self, form, held, reach):
+        self.form = form
         self.held = held
         self.reach = reach
 
 
-def knob_amount(number):
-    """The number of a knob."""
-    return Amount(number, True, 1)
+def knob_amount(form):
+    """The number of a knob for which this form stands."""
+    return Amount(form, True, 1)
 
 
 def fixed_amount(number):
     """A number into which no knob goes."""
-    return Amount(number, False, abs(number))
+    return Amount(plain_form(number), False, abs(number))
 
 
-def sized(worth, held, reach):
+def sized(form, held, reach):
     """What an operation comes to, unless it is too great."""
     if held:
         if reach >= TOO_GREAT:
             raise Fault("steep")
-        return Amount(worth, True, reach)
-    if abs(worth) >= TOO_GREAT:
+        return Amount(form, True, reach)
+    # Into the form of what isn't held no knob goes: it is just a number.
+    if abs(form[0]) >= TOO_GREAT:
         raise Fault("great")
-    return fixed_amount(worth)
+    return fixed_amount(form[0])
 
 
 def need_numbers(values):
@@ -53,57 +55,44 @@ def need_list(value):
         raise Fault("kind")
 
 
-def added(one, other):
+def sum_of(one, other):
     """The sum of two numbers, or two lists put together."""
     if isinstance(one, tuple) and isinstance(other, tuple):
         if len(one) + len(other) > MOST_LONG:
             raise Fault("long")
         return one + other
     need_numbers([one, other])
-    return sized(one.worth + other.worth, one.held or other.held, one.reach + other.reach)
+    return sized(added(one.form, other.form), one.held or other.held, one.reach + other.reach)
 
 
-def taken(one, other):
+def difference_of(one, other):
     """The first number less the second."""
     need_numbers([one, other])
-    return sized(one.worth - other.worth, one.held or other.held, one.reach + other.reach)
+    return sized(taken(one.form, other.form), one.held or other.held, one.reach + other.reach)
 
 
-def multiplied(one, other):
+def product_of(one, other):
     """The product of two numbers."""
     need_numbers([one, other])
     if one.held and other.held:
         raise Fault("bent")
-    return sized(one.worth * other.worth, one.held or other.held, one.reach * other.reach)
+    if one.held:
+        form = times(one.form, other.form[0])
+    else:
+        form = times(other.form, one.form[0])
+    return sized(form, one.held or other.held, one.reach * other.reach)
 
 
-def quotient_of(one, other):
-    """How often the second number goes into the first one, as a plain int."""
+def divisor_of(one, other):
+    """The second number as an int, if the first one may be divided by it."""
     need_numbers([one, other])
     if other.held:
         raise Fault("bent")
-    if other.worth < 1:
+    if other.form[0] < 1:
         raise Fault("nought")
-    return one.worth // other.worth
+    return other.form[0]
 
 
-def rest_of(one, other, quotient):
-    """What is left of the first number, its quotient by the second one worked out."""
-    return sized(one.worth - other.worth * quotient, one.held, one.reach)
-
-
-def outcome(sign, one, other):
-    """What comes out of a test of two ints."""
-    if sign == "==":
-        if one == other:
-            return "same"
-        return "less" if one < other else "more"
-    holds = one < other if sign == "<" else one <= other
-    return "yes" if holds else "no"
-
-
-def cell_outcome(place, long):
-    """What comes out of asking a list so long for a cell: its number or where it lies."""
-    if place < 0:
-        return "below"
-    return place if place < long else "beyond"
+def rest_of(one, divisor, quotient):
+    """What is left of a number, its quotient by the divisor worked out."""
+    return sized(added(one.form, plain_form(-divisor * quotient)), one.held, one.reach)

@@ -1,8 +1,11 @@
 """A run, one small step after the other, without recursion."""
 
-from tugline.amounts import added, cell_outcome, fixed_amount, knob_amount, multiplied
-from tugline.amounts import need_list, need_numbers, outcome, quotient_of, rest_of, sized, taken
+from tugline.amounts import difference_of, divisor_of, fixed_amount, knob_amount, need_list
+from tugline.amounts import need_numbers, product_of, rest_of, sized, sum_of
 from tugline.faults import Fault
+from tugline.forms import plain_form, worth
+from tugline.turns import conditions_of_cell, conditions_of_quotient, conditions_of_test
+from tugline.turns import outcome_of_cell, outcome_of_test
 
 MOST_OPEN = 12
 
@@ -37,15 +40,22 @@ class Frame:
 
 
 class Machine:
-    """Runs a program with its knobs set to the setting."""
+    """Runs a program with its knobs set to the setting.
 
-    def __init__(self, program, setting, steps):
+    Of each knob the form is handed in that stands for it: its own one, or just
+    its number, where the run needn't be told by this knob. What is told, the
+    number that goes back and the conditions are forms.
+    """
+
+    def __init__(self, program, knob_forms, setting, steps):
         self.program = program
+        self.knob_forms = knob_forms
         self.setting = setting
         self.steps = steps
         self.many = 0
         self.told = []
         self.way = []
+        self.conditions = []
         self.end = None
         self.frames = [Frame({}, program.first)]
 
@@ -79,15 +89,21 @@ class Machine:
         # The list of an each is worked out at its first look alone.
         frame.spot = len(line.code) if frame.at in frame.loops else 0
 
-    def turn(self, frame, out):
-        """Note what comes out of a turn."""
+    def turn(self, frame, out, forms):
+        """Note what comes out of a turn, and its conditions."""
+        turn = len(self.way)
         self.way.append((frame.at, out))
+        self.conditions.extend([(turn, form) for form in forms])
+
+    def worth_of(self, amount):
+        """The worth of a number in this run."""
+        return worth(amount.form, self.setting)
 
     def work(self, frame, what, detail):
         """Do one operation."""
         match what:
             case "knob":
-                frame.push(knob_amount(self.setting[detail]))
+                frame.push(knob_amount(self.knob_forms[detail]))
             case "fixed":
                 frame.push(fixed_amount(detail))
             case "name":
@@ -110,11 +126,11 @@ class Machine:
         """What an operation of two operands comes to; of a test a truth."""
         match what:
             case "+":
-                return added(one, other)
+                return sum_of(one, other)
             case "-":
-                return taken(one, other)
+                return difference_of(one, other)
             case "*":
-                return multiplied(one, other)
+                return product_of(one, other)
             case "cell":
                 return self.cell(frame, one, other)
             case "//" | "rest":
@@ -126,28 +142,29 @@ class Machine:
         """The cell of a list; a turn where its number is held."""
         need_list(items)
         need_numbers([place])
-        out = cell_outcome(place.worth, len(items))
+        out = outcome_of_cell(self.worth_of(place), len(items))
         if place.held:
-            self.turn(frame, out)
+            self.turn(frame, out, conditions_of_cell(out, place.form, len(items)))
         if out in ("below", "beyond"):
             raise Fault("place")
         return items[out]
 
     def divided(self, frame, what, one, other):
         """A quotient or a rest; a turn where what is divided is held."""
-        quotient = quotient_of(one, other)
+        divisor = divisor_of(one, other)
+        quotient = self.worth_of(one) // divisor
         if one.held:
-            self.turn(frame, quotient)
+            self.turn(frame, quotient, conditions_of_quotient(quotient, one.form, divisor))
         if what == "//":
-            return sized(quotient, False, 0)
-        return rest_of(one, other, quotient)
+            return sized(plain_form(quotient), False, 0)
+        return rest_of(one, divisor, quotient)
 
     def tested(self, frame, sign, one, other):
         """Whether a test holds; a turn where one of its numbers is held."""
         need_numbers([one, other])
-        out = outcome(sign, one.worth, other.worth)
+        out = outcome_of_test(sign, self.worth_of(one), self.worth_of(other))
         if one.held or other.held:
-            self.turn(frame, out)
+            self.turn(frame, out, conditions_of_test(sign, out, one.form, other.form))
         return out in ("yes", "same")
 
     def call(self, frame, call):
@@ -169,7 +186,7 @@ class Machine:
             case "tell":
                 values = frame.drop(1)
                 need_numbers(values)
-                self.told.append(values[0].worth)
+                self.told.append(values[0].form)
                 frame.go(line.after)
             case "back":
                 self.leave(frame.drop(1)[0])
@@ -182,7 +199,7 @@ class Machine:
         """Go back with a value: out of a call, or out of the main lines."""
         if len(self.frames) == 1:
             need_numbers([value])
-            self.end = ("back", value.worth)
+            self.end = ("back", value.form)
         else:
             del self.frames[-1]
             self.frames[-1].push(value)

@@ -79,3 +79,19 @@ def setting_for(program, numbers):
     if len(numbers) != many:
         raise NoKnob(many)
     return list(numbers)
+
+
+def setting_of_run(program, setting):
+    """A list of the numbers with which a run goes; of None those written."""
+    return setting_for(program, program.numbers if setting is None else setting)
+
+
+def need_knob(program, knob):
+    """Refuse what is no knob of the program."""
+    if not is_whole(knob) or not 0 <= knob < len(program.numbers):
+        raise NoKnob(knob)
+
+
+def is_whole(thing):
+    """Whether something is an int that is no truth."""
+    return isinstance(thing, int) and not isinstance(thing, bool)

@@ -1,7 +1,6 @@
 """Texts: whether something is one, and the knobs of one."""
 
-from tugline.errors import NoKnob
-from tugline.programs import parsed, setting_for
+from tugline.programs import need_knob, parsed, setting_for
 from tugline.words import is_number
 
 
@@ -17,10 +16,9 @@ def knobs(text):
 
 def line_of(text, knob):
     """The number of the line that the knob stands in; refused with NoKnob."""
-    knob_lines = parsed(text).knob_lines
-    if not is_whole(knob) or not 0 <= knob < len(knob_lines):
-        raise NoKnob(knob)
-    return knob_lines[knob]
+    program = parsed(text)
+    need_knob(program, knob)
+    return program.knob_lines[knob]
 
 
 def set_to(text, numbers):
@@ -46,8 +44,3 @@ def set_words(words, setting, ahead):
         else:
             found.append(word)
     return found
-
-
-def is_whole(thing):
-    """Whether something is an int that is no truth."""
-    return isinstance(thing, int) and not isinstance(thing, bool)
