@@ -11,6 +11,9 @@ INTERFACE = {
     "errors": ("TugError", "NoText", "NoKnob", "TooMany", "NoPull", "Nothing", "NoPlace", "NoRow"),
     "sources": ("read", "knobs", "line_of", "set_to"),
     "plain": ("run",),
+    "forms": ("form_of", "plain_form", "added", "taken", "times", "worth", "along"),
+    "traced": ("traced", "first_broken"),
+    "stretches": ("stretch", "border", "parting", "wrong_row"),
 }
 BUILTINS = """len range enumerate zip min max sum abs sorted reversed int str bool list tuple dict set isinstance
 ord repr any all divmod super Exception ValueError""".split()
