@@ -1,8 +1,10 @@
 """Runs of a text by one knob alone, all others as written."""
 
-from tugline.forms import along, form_of, plain_form
-from tugline.machine import Machine
+from tugline.errors import TooMany
+from tugline.forms import along
+from tugline.machine import run_by
 from tugline.programs import need_knob, parsed
+from tugline.spans import span_of
 
 
 class Alone:
@@ -13,16 +15,13 @@ class Alone:
         need_knob(self.program, knob)
         self.knob = knob
         self.steps = steps
+        self.written = self.program.numbers[knob]
 
     def run_at(self, number):
         """The run with the knob set to the number, ended; of forms only this knob has one."""
         setting = list(self.program.numbers)
         setting[self.knob] = number
-        knob_forms = [plain_form(other) for other in setting]
-        knob_forms[self.knob] = form_of(self.knob)
-        machine = Machine(self.program, knob_forms, setting, self.steps)
-        machine.finish()
-        return machine
+        return run_by(self.program, [self.knob], setting, self.steps)
 
     def pair_of(self, machine, form):
         """A form of a run by the knob alone: (c, m), c and m times its number."""
@@ -30,17 +29,7 @@ class Alone:
 
     def stretch_of(self, machine):
         """The least and the greatest number for which all conditions of the run hold."""
-        least = greatest = None
-        for _, form in machine.conditions:
-            start, slope = self.pair_of(machine, form)
-            if slope > 0:
-                # The least one at or above -start / slope: // alone would go below.
-                bound = -(start // slope)
-                least = bound if least is None else max(least, bound)
-            elif slope < 0:
-                bound = start // -slope
-                greatest = bound if greatest is None else min(greatest, bound)
-        return least, greatest
+        return span_of([self.pair_of(machine, form) for _, form in machine.conditions])
 
     def row_at(self, low, high):
         """The row of a parting that begins at low, in a range that ends at high."""
@@ -52,3 +41,15 @@ class Alone:
         if end[0] == "back":
             end = ("back", self.pair_of(machine, end[1]))
         return low, last, told, end
+
+    def rows_of(self, low, high, most):
+        """The list of rows into which the range is parted; refused with TooMany."""
+        rows = []
+        start = low
+        while start <= high:
+            if len(rows) == most:
+                raise TooMany(most)
+            row = self.row_at(start, high)
+            rows.append(row)
+            start = row[1] + 1
+        return rows

@@ -3,7 +3,7 @@
 from tugline.amounts import difference_of, divisor_of, fixed_amount, knob_amount, need_list
 from tugline.amounts import need_numbers, product_of, rest_of, sized, sum_of
 from tugline.faults import Fault
-from tugline.forms import plain_form, worth
+from tugline.forms import form_of, plain_form, worth
 from tugline.turns import conditions_of_cell, conditions_of_quotient, conditions_of_test
 from tugline.turns import outcome_of_cell, outcome_of_test
 
@@ -99,6 +99,18 @@ class Machine:
         """The worth of a number in this run."""
         return worth(amount.form, self.setting)
 
+    def out_of_test(self, sign, one, other):
+        """What comes out of a test of two numbers, one of them held."""
+        return outcome_of_test(sign, self.worth_of(one), self.worth_of(other))
+
+    def out_of_cell(self, place, long):
+        """What comes out of a cell of a held number, of a list so long."""
+        return outcome_of_cell(self.worth_of(place), long)
+
+    def out_of_quotient(self, one, divisor):
+        """The quotient of a held number by an int."""
+        return self.worth_of(one) // divisor
+
     def work(self, frame, what, detail):
         """Do one operation."""
         match what:
@@ -142,9 +154,11 @@ class Machine:
         """The cell of a list; a turn where its number is held."""
         need_list(items)
         need_numbers([place])
-        out = outcome_of_cell(self.worth_of(place), len(items))
         if place.held:
+            out = self.out_of_cell(place, len(items))
             self.turn(frame, out, conditions_of_cell(out, place.form, len(items)))
+        else:
+            out = outcome_of_cell(place.form[0], len(items))
         if out in ("below", "beyond"):
             raise Fault("place")
         return items[out]
@@ -152,9 +166,11 @@ class Machine:
     def divided(self, frame, what, one, other):
         """A quotient or a rest; a turn where what is divided is held."""
         divisor = divisor_of(one, other)
-        quotient = self.worth_of(one) // divisor
         if one.held:
+            quotient = self.out_of_quotient(one, divisor)
             self.turn(frame, quotient, conditions_of_quotient(quotient, one.form, divisor))
+        else:
+            quotient = one.form[0] // divisor
         if what == "//":
             return sized(plain_form(quotient), False, 0)
         return rest_of(one, divisor, quotient)
@@ -162,9 +178,11 @@ class Machine:
     def tested(self, frame, sign, one, other):
         """Whether a test holds; a turn where one of its numbers is held."""
         need_numbers([one, other])
-        out = outcome_of_test(sign, self.worth_of(one), self.worth_of(other))
         if one.held or other.held:
+            out = self.out_of_test(sign, one, other)
             self.turn(frame, out, conditions_of_test(sign, out, one.form, other.form))
+        else:
+            out = outcome_of_test(sign, one.form[0], other.form[0])
         return out in ("yes", "same")
 
     def call(self, frame, call):
@@ -218,3 +236,13 @@ class Machine:
         else:
             del frame.loops[frame.at]
             frame.go(line.after)
+
+
+def run_by(program, movers, setting, steps):
+    """The ended run at a setting; these knobs have forms of their own, others are just their numbers."""
+    knob_forms = []
+    for knob, number in enumerate(setting):
+        knob_forms.append(form_of(knob) if knob in movers else plain_form(number))
+    machine = Machine(program, knob_forms, setting, steps)
+    machine.finish()
+    return machine

@@ -86,6 +86,11 @@ def setting_of_run(program, setting):
     return setting_for(program, program.numbers if setting is None else setting)
 
 
+def all_knobs(program):
+    """The list of the program's knobs."""
+    return list(range(len(program.numbers)))
+
+
 def need_knob(program, knob):
     """Refuse what is no knob of the program."""
     if not is_whole(knob) or not 0 <= knob < len(program.numbers):

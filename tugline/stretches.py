@@ -1,7 +1,6 @@
 """Stretches: the numbers of one knob for which a run goes one way."""
 
 from tugline.alone import Alone
-from tugline.errors import TooMany
 
 
 def stretch(text, knob, number, *, steps=300):
@@ -23,16 +22,7 @@ def border(text, knob, number, *, steps=300):
 
 def parting(text, knob, low, high, *, steps=300, most=100):
     """The list of rows (least, greatest, told, end) that cover the range; refused with TooMany."""
-    alone = Alone(text, knob, steps)
-    rows = []
-    start = low
-    while start <= high:
-        if len(rows) == most:
-            raise TooMany(most)
-        row = alone.row_at(start, high)
-        rows.append(row)
-        start = row[1] + 1
-    return rows
+    return Alone(text, knob, steps).rows_of(low, high, most)
 
 
 def wrong_row(text, knob, low, high, thing, *, steps=300):

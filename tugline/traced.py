@@ -1,16 +1,14 @@
 """A run told by its forms and conditions."""
 
-from tugline.forms import form_of, worth
-from tugline.machine import Machine
-from tugline.programs import parsed, setting_of_run
+from tugline.forms import worth
+from tugline.machine import run_by
+from tugline.programs import all_knobs, parsed, setting_of_run
 
 
 def traced(text, *, setting=None, steps=300):
     """Tell (told, end, way, many, conditions) of the text's run; refused with NoText or NoKnob."""
     program = parsed(text)
-    numbers = setting_of_run(program, setting)
-    machine = Machine(program, [form_of(knob) for knob in range(len(numbers))], numbers, steps)
-    machine.finish()
+    machine = run_by(program, all_knobs(program), setting_of_run(program, setting), steps)
     return tuple(machine.told), machine.end, tuple(machine.way), machine.many, machine.conditions
 
 
