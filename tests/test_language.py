@@ -2,6 +2,7 @@
 
 import ast
 import importlib
+import inspect
 import os
 import unittest
 
@@ -14,6 +15,38 @@ INTERFACE = {
     "forms": ("form_of", "plain_form", "added", "taken", "times", "worth", "along"),
     "traced": ("traced", "first_broken"),
     "stretches": ("stretch", "border", "parting", "wrong_row"),
+    "pulls": ("pull", "pull_any", "pull_two"),
+    "books": ("Book",),
+    "desk": ("Desk",),
+    "ways": ("follow", "Ways"),
+}
+CLASSES = {
+    "books": ("Book", "(text)", {
+        "text": "()", "set_knob": "(knob, number)", "pull": "(place, due, knob, low, high, *, pinned=())", "back": "()",
+        "on": "()", "changes": "()", "whence": "(place)", "__eq__": "(other)",
+    }),
+    "desk": ("Desk", "()", {"say": "(row)"}),
+    "ways": ("Ways", "(text, *, room=30, steps=300)", {"ask": "(setting)", "ways": "()", "runs": "()", "broken": "(setting)"}),
+}
+SIGNATURES = {
+    "sources": {"read": "(text)", "knobs": "(text)", "line_of": "(text, knob)", "set_to": "(text, numbers)"},
+    "plain": {"run": "(text, *, setting=None, steps=300)"},
+    "forms": {
+        "form_of": "(knob)", "plain_form": "(number)", "added": "(one, other)", "taken": "(one, other)",
+        "times": "(form, number)", "worth": "(form, setting)", "along": "(form, knob, setting)",
+    },
+    "traced": {"traced": "(text, *, setting=None, steps=300)", "first_broken": "(conditions, setting)"},
+    "stretches": {
+        "stretch": "(text, knob, number, *, steps=300)", "border": "(text, knob, number, *, steps=300)",
+        "parting": "(text, knob, low, high, *, steps=300, most=100)",
+        "wrong_row": "(text, knob, low, high, thing, *, steps=300)",
+    },
+    "pulls": {
+        "pull": "(text, place, due, knob, low, high, *, pinned=(), steps=300, most=100)",
+        "pull_any": "(text, place, due, low, high, *, pinned=(), steps=300, most=100)",
+        "pull_two": "(text, place, due, knob, other, *, pinned=(), steps=300)",
+    },
+    "ways": {"follow": "(text, way, *, steps=300)"},
 }
 BUILTINS = """len range enumerate zip min max sum abs sorted reversed int str bool list tuple dict set isinstance
 ord repr any all divmod super Exception ValueError""".split()
@@ -127,6 +160,21 @@ class Language(unittest.TestCase):
             found = [node.name for node in tree.body if isinstance(node, (ast.FunctionDef, ast.ClassDef))]
             for name in names:
                 self.assertIn(name, found)
+
+    def test_arguments_and_defaults(self):
+        for module, functions in SIGNATURES.items():
+            for name, shown in functions.items():
+                found = getattr(importlib.import_module("tugline." + module), name)
+                self.assertEqual(str(inspect.signature(found)), shown, name)
+
+    def test_methods_stand_in_the_class_itself(self):
+        for module, (name, shown, methods) in CLASSES.items():
+            kind = getattr(importlib.import_module("tugline." + module), name)
+            self.assertEqual(str(inspect.signature(kind)), shown, name)
+            for method, due in methods.items():
+                self.assertIn(method, vars(kind))
+                found = str(inspect.signature(vars(kind)[method]))
+                self.assertEqual(found.replace("(self, ", "(").replace("(self)", "()"), due, method)
 
 
 if __name__ == "__main__":
